@@ -1,0 +1,57 @@
+"""States of a traveller, the roads that it can take, and their results."""
+
+from shutroads.errors import BadRoad, BadState
+from shutroads.maps import are_roads, check_map, is_road, is_within, is_world, other_end, roads_at, small_sets
+
+
+def is_state(chart, state):
+    """Return whether a value is a state of a map."""
+    if not isinstance(state, tuple) or len(state) != 3:
+        return False
+    place, clear, shut = state
+    if not is_within(place, 0, chart.places - 1) or not are_roads(chart, clear) or not is_world(chart, shut):
+        return False
+    if any([road in shut for road in clear]):
+        return False
+    return all([road in clear or road in shut for road in roads_at(chart, place)])
+
+
+def check_state(chart, state):
+    """Raise BadState if an argument is no state of a map."""
+    if not is_state(chart, state):
+        raise BadState("not a state of the map")
+
+
+def _arrivals(chart, place, clear, shut):
+    """Return the list of the states in which the traveller can be at a place to which it came knowing this."""
+    unknown = [road for road in roads_at(chart, place) if road not in clear and road not in shut]
+    found = []
+    for closed in small_sets(unknown, chart.most - len(shut)):
+        passable = [road for road in unknown if road not in closed]
+        found.append((place, tuple(sorted([*clear, *passable])), tuple(sorted([*shut, *closed]))))
+    return found
+
+
+def first_states(chart):
+    """Return the list of the states at the beginning, in order."""
+    check_map(chart)
+    return _arrivals(chart, chart.ends[0], (), ())
+
+
+def ways(chart, state):
+    """Return the list of the open roads at the place of a state, ascending."""
+    check_map(chart)
+    check_state(chart, state)
+    place, clear, _ = state
+    return [road for road in roads_at(chart, place) if road in clear]
+
+
+def results(chart, state, road):
+    """Return the list of the states that can follow when a road is taken, in order."""
+    check_map(chart)
+    check_state(chart, state)
+    # Only an integer is compared with the ways: True equals 1.
+    if not is_road(chart, road) or road not in ways(chart, state):
+        raise BadRoad("not an open road at the place")
+    place, clear, shut = state
+    return _arrivals(chart, other_end(chart, road, place), clear, shut)
