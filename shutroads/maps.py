@@ -54,9 +54,14 @@ class Map:
                 and self._ends == other._ends and self._most == other._most)
 
 
+def is_integer(value):
+    """Return whether a value is an integer, and no boolean."""
+    return isinstance(value, int) and not isinstance(value, bool)
+
+
 def is_within(value, low, high):
     """Return whether a value is an integer, no boolean, from low to high."""
-    return isinstance(value, int) and not isinstance(value, bool) and low <= value <= high
+    return is_integer(value) and low <= value <= high
 
 
 def ascends(items):
@@ -160,6 +165,11 @@ def least_lengths(chart, begin, shut):
                 _shorten(lengths, first, second, length)
                 _shorten(lengths, second, first, length)
     return lengths
+
+
+def leaves_no_way(chart, place, world):
+    """Return whether a world leaves no way from a place to the goal."""
+    return least_lengths(chart, place, world)[chart.ends[1]] is None
 
 
 def open_length(chart, world):

@@ -22,6 +22,11 @@ def check_state(chart, state):
         raise BadState("not a state of the map")
 
 
+def is_at_goal(chart, state):
+    """Return whether a state is at the goal of a map."""
+    return state[0] == chart.ends[1]
+
+
 def _arrivals(chart, place, clear, shut):
     """Return the list of the states in which the traveller can be at a place to which it came knowing this."""
     unknown = [road for road in roads_at(chart, place) if road not in clear and road not in shut]
@@ -38,12 +43,23 @@ def first_states(chart):
     return _arrivals(chart, chart.ends[0], (), ())
 
 
+def open_roads(chart, state):
+    """Return the list of the open roads at the place of a state that is known to be right, ascending."""
+    place, clear, _ = state
+    return [road for road in roads_at(chart, place) if road in clear]
+
+
 def ways(chart, state):
     """Return the list of the open roads at the place of a state, ascending."""
     check_map(chart)
     check_state(chart, state)
-    place, clear, _ = state
-    return [road for road in roads_at(chart, place) if road in clear]
+    return open_roads(chart, state)
+
+
+def states_after(chart, state, road):
+    """Return the list of the states that can follow when a road at the place is used, in order."""
+    place, clear, shut = state
+    return _arrivals(chart, other_end(chart, road, place), clear, shut)
 
 
 def results(chart, state, road):
@@ -51,7 +67,6 @@ def results(chart, state, road):
     check_map(chart)
     check_state(chart, state)
     # Only an integer is compared with the ways: True equals 1.
-    if not is_road(chart, road) or road not in ways(chart, state):
+    if not is_road(chart, road) or road not in open_roads(chart, state):
         raise BadRoad("not an open road at the place")
-    place, clear, shut = state
-    return _arrivals(chart, other_end(chart, road, place), clear, shut)
+    return states_after(chart, state, road)

@@ -84,6 +84,34 @@ class Language(unittest.TestCase):
             if isinstance(node, ast.ImportFrom) and node.module in defined:
                 self.assertLessEqual({alias.name for alias in node.names}, defined[node.module], where)
 
+    def test_no_two_files_import_from_each_other(self):
+        below = {}
+        for path, text in PARSED:
+            nodes = [node for node in ast.parse(text).body if isinstance(node, ast.ImportFrom)]
+            below[f"shutroads.{path.stem}"] = {node.module for node in nodes if node.module.startswith("shutroads.")}
+        while below:
+            lowest = [name for name in below if not below[name] & set(below)]
+            self.assertTrue(lowest, below)
+            for name in lowest:
+                del below[name]
+
+    def test_names_are_bound_once_and_imports_are_not_hidden(self):
+        for path, text in PARSED:
+            bound = []
+            tree = ast.parse(text)
+            for node in tree.body:
+                bound += [alias.name for alias in getattr(node, "names", [])]
+                bound += [node.name] if isinstance(node, (ast.FunctionDef, ast.ClassDef)) else []
+                bound += [node.targets[0].id] if isinstance(node, ast.Assign) else []
+            self.assertEqual(len(bound), len(set(bound)), path.name)
+            hidden = {alias.name for node in tree.body for alias in getattr(node, "names", [])}
+            hidden |= {node.name for node in tree.body if isinstance(node, ast.ClassDef)}
+            for node in ast.walk(tree):
+                if isinstance(node, ast.arg):
+                    self.assertNotIn(node.arg, hidden, (path.name, node.lineno))
+                if isinstance(node, ast.Name) and isinstance(node.ctx, ast.Store):
+                    self.assertNotIn(node.id, hidden, (path.name, node.lineno))
+
     def test_module_level(self):
         for path, text in PARSED:
             for node in ast.parse(text).body:
