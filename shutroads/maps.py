@@ -15,9 +15,9 @@ class Map:
     def __init__(self, places, roads, ends, most):
         if not is_within(places, LEAST_PLACES, MOST_PLACES):
             raise BadMap("PLACES")
-        if not _are_triples(places, roads):
+        if not are_triples(places, roads):
             raise BadMap("ROADS")
-        if not _are_ends(places, ends):
+        if not are_ends(places, ends):
             raise BadMap("ENDS")
         if not is_within(most, 0, MOST_SHUT):
             raise BadMap("MOST")
@@ -77,14 +77,14 @@ def _is_triple(places, triple):
     return is_within(second, 1, places - 1) and is_within(first, 0, second - 1) and is_within(length, 1, LONGEST)
 
 
-def _are_triples(places, roads):
+def are_triples(places, roads):
     """Return whether a value is a tuple of roads, as a new map has them."""
     if not isinstance(roads, tuple) or not 1 <= len(roads) <= MOST_ROADS:
         return False
     return all([_is_triple(places, triple) for triple in roads]) and ascends(roads)
 
 
-def _are_ends(places, ends):
+def are_ends(places, ends):
     """Return whether a value is a pair of two different places."""
     if not isinstance(ends, tuple) or len(ends) != 2:
         return False
@@ -146,25 +146,38 @@ def worlds(chart):
     return small_sets(list(range(len(chart))), chart.most)
 
 
-def _shorten(lengths, start, end, length):
-    """Lower the length of the way to one end of a road if it is shorter over the other end."""
-    if lengths[start] is None:
+def _lower(sums, start, end, price):
+    """Lower the sum of the way to one end of a road if it is less over the other end."""
+    if sums[start] is None:
         return
-    if lengths[end] is None or lengths[start] + length < lengths[end]:
-        lengths[end] = lengths[start] + length
+    if sums[end] is None or sums[start] + price < sums[end]:
+        sums[end] = sums[start] + price
+
+
+def road_lengths(chart):
+    """Return the list of the lengths of the roads of a map."""
+    return [length for _, _, length in chart.roads]
+
+
+def least_sums(chart, begin, shut, prices):
+    """Return the list of the least sums of prices of ways from a place to each one without shut roads, None for no way.
+
+    Each road has a price of at least 1.
+    """
+    sums = [None] * chart.places
+    sums[begin] = 0
+    # A cheapest way has fewer roads than there are places, and each round finds at least one road more of it.
+    for _ in range(chart.places - 1):
+        for road, (first, second, _) in enumerate(chart.roads):
+            if road not in shut:
+                _lower(sums, first, second, prices[road])
+                _lower(sums, second, first, prices[road])
+    return sums
 
 
 def least_lengths(chart, begin, shut):
     """Return the list of the least lengths of ways from a place to each one without shut roads, None for no way."""
-    lengths = [None] * chart.places
-    lengths[begin] = 0
-    # A shortest way has fewer roads than there are places, and each round finds at least one road more of it.
-    for _ in range(chart.places - 1):
-        for road, (first, second, length) in enumerate(chart.roads):
-            if road not in shut:
-                _shorten(lengths, first, second, length)
-                _shorten(lengths, second, first, length)
-    return lengths
+    return least_sums(chart, begin, shut, road_lengths(chart))
 
 
 def leaves_no_way(chart, place, world):

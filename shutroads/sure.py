@@ -71,7 +71,7 @@ def _parts(chart, state, world):
     return leaves_no_way(chart, place, world)
 
 
-def _parting_world(chart, state):
+def parting_world(chart, state):
     """Return the first possible world that leaves no way, None if there is none."""
     for world in worlds(chart):
         if _parts(chart, state, world):
@@ -83,7 +83,7 @@ def sure(chart, state):
     """Return a Sure for a state, or a Parted if some possible world leaves no way to the goal."""
     check_map(chart)
     check_state(chart, state)
-    world = _parting_world(chart, state)
+    world = parting_world(chart, state)
     if world is not None:
         return Parted(world)
     game = StateGame(chart)

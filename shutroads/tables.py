@@ -14,13 +14,16 @@ MOST_ENTRIES = 600
 NOTHING = (0, 1)
 
 
-def come_about(game, begins):
-    """Return a dict from all entries that can come about from some, these included, to the choices there."""
-    order = list(begins)
+def all_that_comes_about(game, begins, most):
+    """Return a dict from all entries that can come about from some, these included, to the choices there.
+
+    If there are more than most, the error is TooLarge; with None, there is no limit.
+    """
+    order = list({entry: True for entry in begins})
     seen = set(order)
     found = {}
     while len(found) < len(order):
-        if len(order) > MOST_ENTRIES:
+        if most is not None and len(order) > most:
             raise TooLarge("more can come about than the limit allows")
         entry = order[len(found)]
         choices = game.choices(entry)
@@ -31,6 +34,11 @@ def come_about(game, begins):
                     seen.add(result)
                     order.append(result)
     return found
+
+
+def come_about(game, begins):
+    """Return the same, but no more than the limit of most functions."""
+    return all_that_comes_about(game, begins, MOST_ENTRIES)
 
 
 def _uses(found):

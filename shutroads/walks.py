@@ -27,14 +27,28 @@ def is_at_goal(chart, state):
     return state[0] == chart.ends[1]
 
 
+def _unknown_at(chart, place, clear, shut):
+    """Return the list of the roads at a place of which it is not known whether they are shut, ascending."""
+    return [road for road in roads_at(chart, place) if road not in clear and road not in shut]
+
+
+def _state_at(place, clear, shut, unknown, closed):
+    """Return the state of one who comes to a place knowing this, and sees which of the unknown roads are closed."""
+    passable = [road for road in unknown if road not in closed]
+    return place, tuple(sorted([*clear, *passable])), tuple(sorted([*shut, *closed]))
+
+
 def _arrivals(chart, place, clear, shut):
     """Return the list of the states in which the traveller can be at a place to which it came knowing this."""
-    unknown = [road for road in roads_at(chart, place) if road not in clear and road not in shut]
-    found = []
-    for closed in small_sets(unknown, chart.most - len(shut)):
-        passable = [road for road in unknown if road not in closed]
-        found.append((place, tuple(sorted([*clear, *passable])), tuple(sorted([*shut, *closed]))))
-    return found
+    unknown = _unknown_at(chart, place, clear, shut)
+    return [_state_at(place, clear, shut, unknown, closed)
+            for closed in small_sets(unknown, chart.most - len(shut))]
+
+
+def _arrival_in(chart, world, place, clear, shut):
+    """Return the state in which the traveller is at a place in a world, to which it came knowing this."""
+    unknown = _unknown_at(chart, place, clear, shut)
+    return _state_at(place, clear, shut, unknown, [road for road in unknown if road in world])
 
 
 def first_states(chart):
@@ -56,6 +70,12 @@ def ways(chart, state):
     return open_roads(chart, state)
 
 
+def is_way(chart, state, road):
+    """Return whether a value is an open road at the place of a state."""
+    # Only an integer is compared with the ways: True equals 1.
+    return is_road(chart, road) and road in open_roads(chart, state)
+
+
 def states_after(chart, state, road):
     """Return the list of the states that can follow when a road at the place is used, in order."""
     place, clear, shut = state
@@ -66,7 +86,17 @@ def results(chart, state, road):
     """Return the list of the states that can follow when a road is taken, in order."""
     check_map(chart)
     check_state(chart, state)
-    # Only an integer is compared with the ways: True equals 1.
-    if not is_road(chart, road) or road not in open_roads(chart, state):
+    if not is_way(chart, state, road):
         raise BadRoad("not an open road at the place")
     return states_after(chart, state, road)
+
+
+def first_state_in(chart, world):
+    """Return that of the first states which comes about in a world."""
+    return _arrival_in(chart, world, chart.ends[0], (), ())
+
+
+def state_after_in(chart, world, state, road):
+    """Return the state that follows in a world when an open road at the place is taken."""
+    place, clear, shut = state
+    return _arrival_in(chart, world, other_end(chart, road, place), clear, shut)

@@ -178,10 +178,8 @@ def help_costs(plan, position, tools, limit=600):
 
 # What the words of the points say of tables.
 
-def cost_is_shown(begin, cost, heights, levels, choices_at, goal):
-    """[4] and [6]: heights and levels of integers."""
-    if begin not in heights or heights[begin] > cost or (cost > 0 and levels.get(begin, -1) < cost):
-        return False
+def heights_are_right(heights, choices_at, goal):
+    """[4] and [6]: each height is surely enough."""
     for entry, height in heights.items():
         if height < 0:
             return False
@@ -190,6 +188,11 @@ def cost_is_shown(begin, cost, heights, levels, choices_at, goal):
             for price, results in choices_at(entry)
         ):
             return False
+    return True
+
+
+def levels_are_right(levels, choices_at, goal):
+    """[4] and [6]: nothing less than a level is surely enough."""
     for entry, level in levels.items():
         if level > 0:
             if goal(entry):
@@ -198,6 +201,13 @@ def cost_is_shown(begin, cost, heights, levels, choices_at, goal):
                 if price + max([0] + [levels[result] for result in results if result in levels]) < level:
                     return False
     return True
+
+
+def cost_is_shown(begin, cost, heights, levels, choices_at, goal):
+    """[4] and [6]: heights and levels of integers."""
+    if begin not in heights or heights[begin] > cost or (cost > 0 and levels.get(begin, -1) < cost):
+        return False
+    return heights_are_right(heights, choices_at, goal) and levels_are_right(levels, choices_at, goal)
 
 
 def sure_is_shown(plan, state, length, heights, levels):

@@ -135,6 +135,36 @@ class Language(unittest.TestCase):
             if isinstance(node, ast.Call) and isinstance(node.func, ast.Attribute):
                 self.assertNotEqual(node.func.attr, "sort", where)
 
+    def test_with_blocks_and_what_ends_them(self):
+        plain = (ast.Attribute, ast.Name)
+        for where, node in self.each_node():
+            if isinstance(node, ast.With):
+                for item in node.items:
+                    self.assertIsInstance(item.context_expr, (ast.Call, *plain), where)
+            if isinstance(node, ast.FunctionDef) and node.name == "__exit__":
+                for row in node.body:
+                    self.assertIsInstance(row, ast.Assign, where)
+                    self.assertIsInstance(row.targets[0], plain, where)
+                    self.assertIsInstance(row.value, plain, where)
+
+    def test_objects_are_iterated_over_by_one_statement(self):
+        for where, node in self.each_node():
+            if isinstance(node, ast.FunctionDef) and node.name in ("__iter__", "__len__"):
+                self.assertEqual(len(node.body), 1, where)
+                self.assertRegex(ast.unparse(node.body[0]), r"\Areturn (iter|len)\(self(\.\w+){1,2}\)\Z", where)
+
+    def test_own_names_are_not_those_of_properties_or_methods(self):
+        names = {"property": [], "method": [], "attribute": []}
+        for _, node in self.each_node():
+            for part in getattr(node, "body", []) if isinstance(node, ast.ClassDef) else []:
+                if isinstance(part, ast.FunctionDef):
+                    names["property" if part.decorator_list else "method"].append(part.name)
+            if isinstance(node, ast.Attribute) and isinstance(node.ctx, ast.Store):
+                names["attribute"].append(node.attr)
+        for one, two in (("property", "method"), ("property", "attribute"), ("method", "attribute")):
+            self.assertEqual(set(names[one]) & set(names[two]), set())
+        self.assertEqual(len(names["property"]), len(set(names["property"])))
+
     def test_names(self):
         for where, node in self.each_node():
             if isinstance(node, ast.Name) and hasattr(builtins, node.id):
